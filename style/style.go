@@ -4,6 +4,7 @@ package style
 import (
 	"style/api"
 	"style/rules"
+	"style/tree"
 )
 
 // Check tells whether a text is a sheet (P3).
@@ -29,31 +30,63 @@ func Weight(sheet string, rule, selector int) (int, api.Errno) {
 }
 
 // Doc is a tree of elements with a sheet.
-type Doc struct{}
+type Doc struct {
+	sheet rules.Sheet
+	tree  tree.Tree
+}
 
 // New makes a document (P5).
-func New(sheet string, root string) (*Doc, api.Errno) { return nil, api.OK }
+func New(sheet string, root string) (*Doc, api.Errno) {
+	read, errno, _ := rules.Read(sheet)
+	if errno != api.OK {
+		return nil, errno
+	}
+	elements, errno := tree.New(root)
+	if errno != api.OK {
+		return nil, errno
+	}
+	return &Doc{sheet: read, tree: elements}, api.OK
+}
 
 // Insert makes an element (P6).
-func (x *Doc) Insert(parent, at int, kind string) (int, api.Errno) { return 0, api.OK }
+func (x *Doc) Insert(parent, at int, kind string) (int, api.Errno) {
+	return x.tree.Insert(parent, at, kind)
+}
 
 // Remove takes an element out, with all below it (P6).
-func (x *Doc) Remove(e int) api.Errno { return api.OK }
+func (x *Doc) Remove(e int) api.Errno {
+	return x.tree.Remove(e)
+}
 
 // Move puts an element, with all below it, somewhere else (P6).
-func (x *Doc) Move(e, parent, at int) api.Errno { return api.OK }
+func (x *Doc) Move(e, parent, at int) api.Errno {
+	return x.tree.Move(e, parent, at)
+}
 
 // Class gives an element a class, or takes it away (P7).
-func (x *Doc) Class(e int, class string, on bool) api.Errno { return api.OK }
+func (x *Doc) Class(e int, class string, on bool) api.Errno {
+	return x.tree.Class(e, class, on)
+}
 
 // Name gives an element a name (P7).
-func (x *Doc) Name(e int, name string) api.Errno { return api.OK }
+func (x *Doc) Name(e int, name string) api.Errno {
+	return x.tree.Name(e, name)
+}
 
 // Sheet puts another sheet in the place of the document's (P7).
-func (x *Doc) Sheet(sheet string) api.Errno { return api.OK }
+func (x *Doc) Sheet(sheet string) api.Errno {
+	read, errno, _ := rules.Read(sheet)
+	if errno != api.OK {
+		return errno
+	}
+	x.sheet = read
+	return api.OK
+}
 
 // Children tells the children of an element (P7).
-func (x *Doc) Children(e int) ([]int, api.Errno) { return nil, api.OK }
+func (x *Doc) Children(e int) ([]int, api.Errno) {
+	return x.tree.Children(e)
+}
 
 // Query tells the value of a property on an element (P8).
 func (x *Doc) Query(e int, property string) (int, api.Errno) { return 0, api.OK }
