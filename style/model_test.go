@@ -7,6 +7,9 @@ import (
 // The model holds the tree as nodes that hold their children; the program holds it as one list.
 type node struct {
 	number   int
+	kind     string
+	classes  map[string]bool
+	name     string
 	parent   *node
 	children []*node
 }
@@ -16,8 +19,12 @@ type model struct {
 	made int
 }
 
-func newModel() *model {
-	return &model{root: &node{}, made: 1}
+func newNode(number int, kind string) *node {
+	return &node{number: number, kind: kind, classes: map[string]bool{}}
+}
+
+func newModel(root string) *model {
+	return &model{root: newNode(0, root), made: 1}
 }
 
 func (m *model) all() []*node {
@@ -70,7 +77,7 @@ func (m *model) insert(parent, at int, kind string) (int, api.Errno) {
 	case len(m.all()) == api.MaxElements:
 		return 0, api.ErrFull
 	}
-	p.put(at, &node{number: m.made})
+	p.put(at, newNode(m.made, kind))
 	m.made++
 	return m.made - 1, api.OK
 }
@@ -124,19 +131,26 @@ func (m *model) children(e int) ([]int, api.Errno) {
 	return list, api.OK
 }
 
-func (m *model) class(e int, class string) api.Errno {
+func (m *model) class(e int, class string, on bool) api.Errno {
+	n := m.find(e)
 	switch {
-	case m.find(e) == nil:
+	case n == nil:
 		return api.ErrElement
 	case !isLetter(class):
 		return api.ErrArg
 	}
+	n.classes[class] = on
 	return api.OK
 }
 
-func (m *model) name(e int, name string) api.Errno {
-	if name == "" {
-		name = "a"
+func (m *model) setName(e int, name string) api.Errno {
+	n := m.find(e)
+	switch {
+	case n == nil:
+		return api.ErrElement
+	case name != "" && !isLetter(name):
+		return api.ErrArg
 	}
-	return m.class(e, name)
+	n.name = name
+	return api.OK
 }

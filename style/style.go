@@ -5,6 +5,7 @@ import (
 	"style/api"
 	"style/rules"
 	"style/tree"
+	"style/values"
 )
 
 // Check tells whether a text is a sheet (P3).
@@ -89,7 +90,27 @@ func (x *Doc) Children(e int) ([]int, api.Errno) {
 }
 
 // Query tells the value of a property on an element (P8).
-func (x *Doc) Query(e int, property string) (int, api.Errno) { return 0, api.OK }
+func (x *Doc) Query(e int, property string) (int, api.Errno) {
+	if !x.tree.Has(e) {
+		return 0, api.ErrElement
+	}
+	place, ok := values.Property(property)
+	if !ok {
+		return 0, api.ErrArg
+	}
+	style := x.styleOf(e)
+	return style[place], api.OK
+}
+
+// styleOf begins at the root, as each element has to know what comes from its parent.
+func (x *Doc) styleOf(e int) values.Style {
+	comes := values.Initial()
+	above := x.tree.Above(e)
+	for i := len(above) - 1; i >= 0; i-- {
+		comes = values.Of(x.sheet, &x.tree, above[i], comes)
+	}
+	return values.Of(x.sheet, &x.tree, e, comes)
+}
 
 // Show tells that an element is shown, or is not (P12).
 func (x *Doc) Show(e int, on bool) api.Errno { return api.OK }

@@ -414,10 +414,10 @@ func step(random *rand.Rand, x *style.Doc, m *model) (api.Errno, [3]int, [3]int)
 		errno, wanted := x.Move(e, parent, at), m.move(e, parent, at)
 		return wanted, [3]int{2, e, int(errno)}, [3]int{2, e, int(wanted)}
 	case way < 56:
-		errno, wanted := x.Class(e, word, at > 1), m.class(e, word)
+		errno, wanted := x.Class(e, word, at > 1), m.class(e, word, at > 1)
 		return wanted, [3]int{3, e, int(errno)}, [3]int{3, e, int(wanted)}
 	}
-	errno, wanted := x.Name(e, word), m.name(e, word)
+	errno, wanted := x.Name(e, word), m.setName(e, word)
 	return wanted, [3]int{4, e, int(errno)}, [3]int{4, e, int(wanted)}
 }
 
@@ -425,7 +425,7 @@ func TestTreeAgainstTheModel(t *testing.T) {
 	random := rand.New(rand.NewSource(6))
 	seen := [api.ErrFull + 1]int{}
 	for run := 0; run < 100; run++ {
-		x, m := begin(t, "", "a"), newModel()
+		x, m := begin(t, "", "a"), newModel("a")
 		for i := 0; i < 300; i++ {
 			errno, got, want := step(random, x, m)
 			seen[errno]++
