@@ -3,6 +3,7 @@ package style
 
 import (
 	"style/api"
+	"style/kept"
 	"style/rules"
 	"style/tree"
 	"style/values"
@@ -34,6 +35,7 @@ func Weight(sheet string, rule, selector int) (int, api.Errno) {
 type Doc struct {
 	sheet rules.Sheet
 	tree  tree.Tree
+	kept  kept.Styles
 }
 
 // New makes a document (P5).
@@ -51,27 +53,37 @@ func New(sheet string, root string) (*Doc, api.Errno) {
 
 // Insert makes an element (P6).
 func (x *Doc) Insert(parent, at int, kind string) (int, api.Errno) {
-	return x.tree.Insert(parent, at, kind)
+	number, errno := x.tree.Insert(parent, at, kind)
+	x.staleAfter(errno)
+	return number, errno
 }
 
 // Remove takes an element out, with all below it (P6).
 func (x *Doc) Remove(e int) api.Errno {
-	return x.tree.Remove(e)
+	errno := x.tree.Remove(e)
+	x.staleAfter(errno)
+	return errno
 }
 
 // Move puts an element, with all below it, somewhere else (P6).
 func (x *Doc) Move(e, parent, at int) api.Errno {
-	return x.tree.Move(e, parent, at)
+	errno := x.tree.Move(e, parent, at)
+	x.staleAfter(errno)
+	return errno
 }
 
 // Class gives an element a class, or takes it away (P7).
 func (x *Doc) Class(e int, class string, on bool) api.Errno {
-	return x.tree.Class(e, class, on)
+	errno := x.tree.Class(e, class, on)
+	x.staleAfter(errno)
+	return errno
 }
 
 // Name gives an element a name (P7).
 func (x *Doc) Name(e int, name string) api.Errno {
-	return x.tree.Name(e, name)
+	errno := x.tree.Name(e, name)
+	x.staleAfter(errno)
+	return errno
 }
 
 // Sheet puts another sheet in the place of the document's (P7).
@@ -81,7 +93,15 @@ func (x *Doc) Sheet(sheet string) api.Errno {
 		return errno
 	}
 	x.sheet = read
+	x.kept.Drop()
 	return api.OK
+}
+
+// staleAfter takes all styles for wrong when something has been done; a call that is refused does nothing.
+func (x *Doc) staleAfter(errno api.Errno) {
+	if errno == api.OK {
+		x.kept.Drop()
+	}
 }
 
 // Children tells the children of an element (P7).
@@ -102,14 +122,24 @@ func (x *Doc) Query(e int, property string) (int, api.Errno) {
 	return style[place], api.OK
 }
 
-// styleOf begins at the root, as each element has to know what comes from its parent.
+// styleOf makes an element fresh and all above it. It begins at the root, as each has to know what its parent has.
 func (x *Doc) styleOf(e int) values.Style {
 	comes := values.Initial()
 	above := x.tree.Above(e)
 	for i := len(above) - 1; i >= 0; i-- {
-		comes = values.Of(x.sheet, &x.tree, above[i], comes)
+		comes = x.freshen(above[i], comes)
 	}
-	return values.Of(x.sheet, &x.tree, e, comes)
+	return x.freshen(e, comes)
+}
+
+func (x *Doc) freshen(e int, comes values.Style) values.Style {
+	style, fresh := x.kept.Find(e)
+	if fresh {
+		return style
+	}
+	style = values.Of(x.sheet, &x.tree, e, comes)
+	x.kept.Keep(e, style)
+	return style
 }
 
 // Show tells that an element is shown, or is not (P12).
