@@ -29,7 +29,22 @@ func (s *Styles) Keep(e int, style values.Style) {
 	s.list = append(s.list, one{element: e, style: style})
 }
 
-// Drop makes all elements stale.
-func (s *Styles) Drop() {
-	s.list = nil
+// Drop makes the elements of a list stale.
+func (s *Styles) Drop(list []int) {
+	var rest []one
+	for _, each := range s.list {
+		if !isIn(list, each.element) {
+			rest = append(rest, each)
+		}
+	}
+	s.list = rest
+}
+
+func isIn(list []int, e int) bool {
+	for _, each := range list {
+		if each == e {
+			return true
+		}
+	}
+	return false
 }

@@ -6,7 +6,6 @@ import (
 	"style/kept"
 	"style/rules"
 	"style/tree"
-	"style/values"
 )
 
 // Check tells whether a text is a sheet (P3).
@@ -54,35 +53,52 @@ func New(sheet string, root string) (*Doc, api.Errno) {
 // Insert makes an element (P6).
 func (x *Doc) Insert(parent, at int, kind string) (int, api.Errno) {
 	number, errno := x.tree.Insert(parent, at, kind)
-	x.staleAfter(errno)
+	if errno == api.OK {
+		x.turned(parent)
+	}
 	return number, errno
 }
 
-// Remove takes an element out, with all below it (P6).
+// Remove takes an element out, with all below it (P6). What is kept of them has to go too, so the reach
+// is asked for while they are still there.
 func (x *Doc) Remove(e int) api.Errno {
+	parent := x.tree.Parent(e)
+	reach := x.tree.Reach(parent)
 	errno := x.tree.Remove(e)
-	x.staleAfter(errno)
+	if errno == api.OK {
+		x.kept.Drop(reach)
+	}
 	return errno
 }
 
 // Move puts an element, with all below it, somewhere else (P6).
 func (x *Doc) Move(e, parent, at int) api.Errno {
+	old := x.tree.Parent(e)
 	errno := x.tree.Move(e, parent, at)
-	x.staleAfter(errno)
+	if errno == api.OK {
+		x.turned(old)
+		x.turned(parent)
+	}
 	return errno
 }
 
 // Class gives an element a class, or takes it away (P7).
 func (x *Doc) Class(e int, class string, on bool) api.Errno {
-	errno := x.tree.Class(e, class, on)
-	x.staleAfter(errno)
+	letter, errno := x.tree.Class(e, class, on)
+	if x.sheet.Names(rules.Class, letter) {
+		x.turned(e)
+	}
 	return errno
 }
 
 // Name gives an element a name (P7).
 func (x *Doc) Name(e int, name string) api.Errno {
-	errno := x.tree.Name(e, name)
-	x.staleAfter(errno)
+	old, now, errno := x.tree.Name(e, name)
+	oldTells := x.sheet.Names(rules.Name, old)
+	nowTells := x.sheet.Names(rules.Name, now)
+	if old != now && (oldTells || nowTells) {
+		x.turned(e)
+	}
 	return errno
 }
 
@@ -93,15 +109,8 @@ func (x *Doc) Sheet(sheet string) api.Errno {
 		return errno
 	}
 	x.sheet = read
-	x.kept.Drop()
+	x.kept = kept.Styles{}
 	return api.OK
-}
-
-// staleAfter takes all styles for wrong when something has been done; a call that is refused does nothing.
-func (x *Doc) staleAfter(errno api.Errno) {
-	if errno == api.OK {
-		x.kept.Drop()
-	}
 }
 
 // Children tells the children of an element (P7).
@@ -111,45 +120,44 @@ func (x *Doc) Children(e int) ([]int, api.Errno) {
 
 // Query tells the value of a property on an element (P8).
 func (x *Doc) Query(e int, property string) (int, api.Errno) {
-	if !x.tree.Has(e) {
-		return 0, api.ErrElement
-	}
-	place, ok := values.Property(property)
-	if !ok {
-		return 0, api.ErrArg
+	place, errno := x.placeOf(e, property)
+	if errno != api.OK {
+		return 0, errno
 	}
 	style := x.styleOf(e)
 	return style[place], api.OK
 }
 
-// styleOf makes an element fresh and all above it. It begins at the root, as each has to know what its parent has.
-func (x *Doc) styleOf(e int) values.Style {
-	comes := values.Initial()
-	above := x.tree.Above(e)
-	for i := len(above) - 1; i >= 0; i-- {
-		comes = x.freshen(above[i], comes)
-	}
-	return x.freshen(e, comes)
-}
-
-func (x *Doc) freshen(e int, comes values.Style) values.Style {
-	style, fresh := x.kept.Find(e)
-	if fresh {
-		return style
-	}
-	style = values.Of(x.sheet, &x.tree, e, comes)
-	x.kept.Keep(e, style)
-	return style
-}
-
 // Show tells that an element is shown, or is not (P12).
-func (x *Doc) Show(e int, on bool) api.Errno { return api.OK }
+func (x *Doc) Show(e int, on bool) api.Errno {
+	return x.tree.Show(e, on)
+}
 
 // Stale tells which elements are stale (P9).
-func (x *Doc) Stale() []int { return nil }
+func (x *Doc) Stale() []int {
+	numbers := x.tree.Numbers()
+	return x.staleOf(numbers)
+}
 
-// Stored tells what is kept of an element (P9).
-func (x *Doc) Stored(e int, property string) (int, bool, api.Errno) { return 0, false, api.OK }
+// Stored tells what is kept of an element (P9): of a stale one nothing, which Find answers as zeros.
+func (x *Doc) Stored(e int, property string) (int, bool, api.Errno) {
+	place, errno := x.placeOf(e, property)
+	if errno != api.OK {
+		return 0, false, errno
+	}
+	style, fresh := x.kept.Find(e)
+	return style[place], fresh, api.OK
+}
 
 // Slice makes some stale elements fresh (P11).
-func (x *Doc) Slice(budget int) int { return 0 }
+func (x *Doc) Slice(budget int) int {
+	made := 0
+	for _, e := range x.toDo() {
+		if made >= budget {
+			return made
+		}
+		x.styleOf(e)
+		made++
+	}
+	return made
+}

@@ -27,11 +27,20 @@ func (t *Tree) HasName(e int, letter byte) bool {
 	return there && t.elements[place].name == letter
 }
 
+// Parent tells the parent of an element. The root's, and that of what is no element, is a number that no element has.
+func (t *Tree) Parent(e int) int {
+	place, there := t.find(e)
+	if !there {
+		return noParent
+	}
+	return t.elements[place].parent
+}
+
 // Above tells the elements above an element, the nearest first. No way up is longer than the list.
 func (t *Tree) Above(e int) []int {
 	var above []int
 	for range t.elements {
-		e = t.parentOf(e)
+		e = t.Parent(e)
 		if e == noParent {
 			return above
 		}

@@ -9,6 +9,7 @@ type element struct {
 	kind    byte
 	classes [letters]bool
 	name    byte
+	shown   bool
 }
 
 // placeFor tells where in a list an element has to be put to become a parent's child number at.

@@ -2,35 +2,46 @@ package tree
 
 import "style/api"
 
-// Class gives an element a class, or takes it away (P7).
-func (t *Tree) Class(e int, class string, on bool) api.Errno {
+// Class gives an element a class, or takes it away (P7). It tells the class's letter, or 0 if all is as it was.
+func (t *Tree) Class(e int, class string, on bool) (byte, api.Errno) {
 	place, there := t.find(e)
 	if !there {
-		return api.ErrElement
+		return 0, api.ErrElement
 	}
 	letter, ok := oneLetter(class)
 	if !ok {
-		return api.ErrArg
+		return 0, api.ErrArg
+	}
+	if t.elements[place].classes[letter-'a'] == on {
+		return 0, api.OK
 	}
 	t.elements[place].classes[letter-'a'] = on
-	return api.OK
+	return letter, api.OK
 }
 
-// Name gives an element a name, or takes it away if the name is empty (P7).
-func (t *Tree) Name(e int, name string) api.Errno {
+// Name gives an element a name, or takes it away if the name is empty (P7). It tells the old name and the new one,
+// 0 for none.
+func (t *Tree) Name(e int, name string) (byte, byte, api.Errno) {
+	place, there := t.find(e)
+	if !there {
+		return 0, 0, api.ErrElement
+	}
+	letter, ok := oneLetter(name)
+	if !ok && name != "" {
+		return 0, 0, api.ErrArg
+	}
+	old := t.elements[place].name
+	t.elements[place].name = letter
+	return old, letter, api.OK
+}
+
+// Show tells that an element is shown, or is not (P12).
+func (t *Tree) Show(e int, on bool) api.Errno {
 	place, there := t.find(e)
 	if !there {
 		return api.ErrElement
 	}
-	if name == "" {
-		t.elements[place].name = 0
-		return api.OK
-	}
-	letter, ok := oneLetter(name)
-	if !ok {
-		return api.ErrArg
-	}
-	t.elements[place].name = letter
+	t.elements[place].shown = on
 	return api.OK
 }
 

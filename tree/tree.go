@@ -126,15 +126,7 @@ func (t *Tree) within(number, top int) bool {
 		if number == top {
 			return true
 		}
-		number = t.parentOf(number)
+		number = t.Parent(number)
 	}
 	return false
-}
-
-func (t *Tree) parentOf(number int) int {
-	place, there := t.find(number)
-	if !there {
-		return noParent
-	}
-	return t.elements[place].parent
 }

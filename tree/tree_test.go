@@ -49,14 +49,14 @@ func tryMarks(t *testing.T, x *Tree, number int, kind, classes, name string) {
 
 func tryClass(t *testing.T, x *Tree, e int, class string, on bool, want api.Errno) {
 	t.Helper()
-	if got := x.Class(e, class, on); got != want {
+	if _, got := x.Class(e, class, on); got != want {
 		t.Errorf("P7: Class(%d, %q, %v) = %d, want %d", e, class, on, got, want)
 	}
 }
 
 func tryName(t *testing.T, x *Tree, e int, name string, want api.Errno) {
 	t.Helper()
-	if got := x.Name(e, name); got != want {
+	if _, _, got := x.Name(e, name); got != want {
 		t.Errorf("P7: Name(%d, %q) = %d, want %d", e, name, got, want)
 	}
 }
@@ -145,9 +145,9 @@ func TestErrorsChangeNothing(t *testing.T) {
 		case way < 5:
 			errno = x.Move(e, parent, at)
 		case way < 7:
-			errno = x.Class(e, word, at > 1)
+			_, errno = x.Class(e, word, at > 1)
 		case way < 8:
-			errno = x.Name(e, word)
+			_, _, errno = x.Name(e, word)
 		case i%20 == 0:
 			errno = x.Remove(e)
 		}
